@@ -3,8 +3,9 @@
 The numbers of a call are its whole numbers, then those of its row if it has one.
 """
 
+from lateinputs.inputs import counting_for, rows_of
 from lateinputs.session import Session
-from lateinputs.stays import present_stay
+from lateinputs.stays import present_stay, row_of
 
 OUT_OF_RANGE = -1
 NOTHING_OPEN = -2
@@ -30,6 +31,14 @@ RANGES = {
     5: ((1, 50),),
     6: ((1, 16),),
     7: ((0, 400),),
+    8: ((1, 1000),),
+    9: ((1, 1000),),
+    10: ((0, 3), (1, 40), (1, 100000)),
+    11: (),
+    12: (),
+    13: (),
+    14: (),
+    15: ((0, 400),),
 }
 
 # For each call with a row: how long it may be, the least and the greatest of its numbers.
@@ -114,6 +123,43 @@ def tell_world(session, numbers):
     return [0] + session.world_behind(numbers[0])
 
 
+def tell_counts(session, numbers):
+    return [0] + rows_of([(one, 0) for one in counting_for(session.counts, numbers[0])])
+
+
+def tell_deeds(session, numbers):
+    return [0] + rows_of(session.deeds(numbers[0]))
+
+
+def tell_fate(session, numbers):
+    return [0] + session.known_of(tuple(numbers))
+
+
+def tell_snapshots(session, numbers):
+    return [0] + sorted(session.snapshots)
+
+
+def tell_now(session, numbers):
+    return [0, session.made, session.settled, len(session.kept), len(session.late)] + session.cells
+
+
+def tell_stays(session, numbers):
+    told = [0]
+    for stay in session.stays:
+        told.extend(row_of(stay))
+    return told
+
+
+def tell_ready(session, numbers):
+    return [0, 1 if session.is_ready() else 0]
+
+
+def tell_plain(session, numbers):
+    if numbers[0] > session.made:
+        return [NOT_TO_BE_HAD]
+    return [0] + session.plain_behind(numbers[0])
+
+
 # What answers each call but the first, once it is known that something is open.
 DOERS = {
     1: join_player,
@@ -123,6 +169,14 @@ DOERS = {
     5: lock_ticks,
     6: resize_window,
     7: tell_world,
+    8: tell_counts,
+    9: tell_deeds,
+    10: tell_fate,
+    11: tell_snapshots,
+    12: tell_now,
+    13: tell_stays,
+    14: tell_ready,
+    15: tell_plain,
 }
 
 

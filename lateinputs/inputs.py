@@ -39,6 +39,14 @@ def counting_of(counts, tick, player):
     return counts.get((tick, player), [])
 
 
+def counting_for(counts, tick):
+    """The inputs of all players that count for a tick, in order."""
+    found = []
+    for player in range(PLAYERS):
+        found.extend(counting_of(counts, tick, player))
+    return found
+
+
 def guess_for(counts, held, tick, player):
     """What is guessed for a player who is there and has nothing that counts: one deed or none."""
     for earlier in range(tick - 1, max(tick - held, 1) - 1, -1):
@@ -57,4 +65,15 @@ def deeds_of(counts, stays, held, tick):
             found.extend([(one, 0) for one in row])
         elif is_there(stays, player, tick):
             found.extend(guess_for(counts, held, tick, player))
+    return found
+
+
+def rows_of(deeds):
+    """The inputs of deeds as rows, one behind another. A guess is told as the input that it is taken from."""
+    found = []
+    for deed in deeds:
+        one = deed[0]
+        found.extend(one[:SAYS])
+        found.extend([deed[1], len(one[SAYS])])
+        found.extend(one[SAYS])
     return found

@@ -11,6 +11,12 @@ TOO_EARLY = 3
 NOT_PRESENT = 4
 COUNTS_NOT = 5
 
+# What is known of a number of a player and stay; these are not fates.
+NEVER_CAME = 0
+FIRST_COUNTS = 1
+ONLY_LATE = 2
+FIRST_COUNTS_NOT = 3
+
 
 class Session:
     """What is open. Its methods take it that the call has not been refused."""
@@ -27,7 +33,8 @@ class Session:
         self.counts = {}
         self.made = 0
         self.settled = 0
-        self.cells = first_cells(seed)
+        self.beginning = first_cells(seed)
+        self.cells = self.beginning
         self.snapshots = {0: self.cells}
 
     def begin_stay(self, player):
@@ -47,9 +54,7 @@ class Session:
                 self.late[name_of(one)] = True
             return [reason, 0]
         again = self.keep(one)
-        if one in counting_of(self.counts, one[TICK], one[PLAYER]):
-            return [COUNTS, again]
-        return [COUNTS_NOT, again]
+        return [COUNTS if self.does_count(one) else COUNTS_NOT, again]
 
     def reason_not_to_keep(self, one):
         """The fate of an input that is not kept, or None if it is to be kept."""
@@ -74,6 +79,16 @@ class Session:
             if before[place] != after[place]:
                 return self.reckon_again(self.settled + 1 + place)
         return 0
+
+    def does_count(self, one):
+        return one in counting_of(self.counts, one[TICK], one[PLAYER])
+
+    def known_of(self, name):
+        """What is known of a number of a player and stay, and the tick of its first input that is kept."""
+        first = min([one for one in self.kept if name_of(one) == name], default=None)
+        if first is not None:
+            return [FIRST_COUNTS if self.does_count(first) else FIRST_COUNTS_NOT, first[TICK]]
+        return [ONLY_LATE if name in self.late else NEVER_CAME, 0]
 
     def deeds(self, tick):
         return deeds_of(self.counts, self.stays, self.held, tick)
@@ -134,6 +149,10 @@ class Session:
     def world_behind(self, tick):
         start = self.latest_snapshot(tick)
         return self.cells_from(self.snapshots[start], start, tick)
+
+    def plain_behind(self, tick):
+        """The cells behind a tick with no snapshot's help, so that it can be held against what snapshots give."""
+        return self.cells_from(self.beginning, 0, tick)
 
     def cells_from(self, cells, start, tick):
         """The cells behind a tick, reckoned from those behind the tick start."""

@@ -1,5 +1,7 @@
 """Stays: from when to when a player is there. A list of them is in the order in which they began."""
 
+STILL_THERE = -1
+
 
 class Stay:
     """One stay of a player: from behind one tick up to another, which is None while the player is there."""
@@ -30,3 +32,8 @@ def present_stay(stays, player):
 
 def next_number(stays, player):
     return 1 + len([stay for stay in stays if stay.player == player])
+
+
+def row_of(stay):
+    """A stay as it is told: its player, its number, the tick that it is behind, its last tick."""
+    return [stay.player, stay.number, stay.behind, STILL_THERE if stay.last is None else stay.last]

@@ -43,6 +43,47 @@ def world(behind):
     return [7, behind]
 
 
+def counts(number):
+    return [8, number]
+
+
+def deeds(number):
+    return [9, number]
+
+
+def fate(player, stay, number):
+    return [10, player, stay, number]
+
+
+def snaps():
+    return [11]
+
+
+def now():
+    return [12]
+
+
+def stays():
+    return [13]
+
+
+def ready():
+    return [14]
+
+
+def plain(behind):
+    return [15, behind]
+
+
+def row(player, stay, number, for_tick, *says, guess=0):
+    """An input as a row."""
+    return [player, stay, number, for_tick, guess, len(says)] + list(says)
+
+
+def guessed(player, stay, number, for_tick, *says):
+    return row(player, stay, number, for_tick, *says, guess=1)
+
+
 def line_of(calls):
     return [number for call in calls for number in call]
 
@@ -58,7 +99,10 @@ def split(given):
 
 def run(*calls):
     """The answer to each call of one line."""
-    return split(answers(line_of(calls)))
+    line = line_of(calls)
+    if len(calls) > 200 or len(line) > 4000:
+        raise ValueError("a test hands in a longer line than may be")
+    return split(answers(line))
 
 
 def last(*calls):
@@ -87,7 +131,18 @@ LIMITS = {
     5: [(1, 50)],
     6: [(1, 16)],
     7: [(0, 400)],
+    8: [(1, 1000)],
+    9: [(1, 1000)],
+    10: [(0, 3), (1, 40), (1, 100000)],
+    11: [],
+    12: [],
+    13: [],
+    14: [],
+    15: [(0, 400)],
 }
+
+# The calls that only ask.
+ASKING = range(7, 16)
 
 
 class Model:
@@ -129,6 +184,8 @@ class Model:
         if name in (4, 5) and self.made + numbers[0] > 400:
             yield -7
         if name == 7 and (numbers[0] > self.made or numbers[0] < self.snapshot_at(self.settled)):
+            yield -4
+        if name == 15 and numbers[0] > self.made:
             yield -4
 
     def snapshot_at(self, number):
@@ -224,10 +281,13 @@ class Model:
 
     def call_5(self, many):
         for step in range(many):
-            coming = self.made + 1
-            if all(self.counted(coming, p) for p in range(4) if self.is_in(p, coming)):
-                self.made = coming
+            if self.is_ready():
+                self.made += 1
         return self.settle()
+
+    def is_ready(self):
+        coming = self.made + 1
+        return all(self.counted(coming, p) for p in range(4) if self.is_in(p, coming))
 
     def call_6(self, window):
         self.window = window
@@ -238,6 +298,35 @@ class Model:
         return [self.made, self.settled]
 
     def call_7(self, behind):
+        return self.cells(behind)
+
+    def call_8(self, number):
+        return [x for one in sorted(self.kept) if one in self.counted(number, one[0])
+                for x in row(*one[:4], *one[4])]
+
+    def call_9(self, number):
+        return [x for guess, one in self.deeds(number) for x in row(*one[:4], *one[4], guess=guess)]
+
+    def call_10(self, player, stay, number):
+        name = (player, stay, number)
+        ways = sorted(one for one in self.kept if one[:3] == name)
+        if not ways:
+            return [2 if name in self.late else 0, 0]
+        return [1 if ways[0] in self.counted(ways[0][3], player) else 3, ways[0][3]]
+
+    def call_11(self):
+        return [t for t in range(self.snapshot_at(self.settled), self.made + 1) if t % self.every == 0]
+
+    def call_12(self):
+        return [self.made, self.settled, len(self.kept), len(self.late)] + self.cells(self.made)
+
+    def call_13(self):
+        return [stay[part] for stay in self.stays for part in ("player", "number", "behind", "last")]
+
+    def call_14(self):
+        return [int(self.is_ready())]
+
+    def call_15(self, behind):
         return self.cells(behind)
 
 
@@ -276,9 +365,21 @@ class Chance:
         return pick([
             begin(), begin(window=17), join(4), leave(-1), told(0, 41, 1, 1), told(0, 1, 0, 1), told(0, 1, 1, 1001),
             told(0, 1, 1, 1, 0, 0, 0, 0, 0), told(0, 1, 1, 1, 1000001), tick(0), tick(51), lock(0), lock(51),
-            resize(0), resize(17), world(-1), world(401)])
+            resize(0), resize(17), world(-1), world(401), counts(0), counts(1001), deeds(0), deeds(1001),
+            fate(4, 1, 1), fate(0, 0, 1), fate(0, 41, 1), fate(0, 1, 0), fate(0, 1, 100001), plain(-1), plain(401)])
+
+    def asking(self):
+        pick = self.draw.choice
+        near = max(1, self.made + self.draw.randint(-8, 8))
+        player = self.draw.randrange(4)
+        return pick([
+            counts(near), deeds(near), deeds(near), fate(player, max(1, self.stay[player]), self.draw.randint(1, 9)),
+            fate(player, 1, self.draw.randint(1, 9)), snaps(), now(), stays(), ready(),
+            plain(self.draw.randint(0, self.made + 1)), plain(self.made)])
 
     def call(self):
+        if not self.draw.randrange(3):
+            return self.asking()
         roll = self.draw.randrange(100)
         if roll < 50:
             return self.told()
